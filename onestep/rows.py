@@ -1,11 +1,11 @@
 """All rows of so many switches, each next one a single turned switch away."""
 
-from onestep.errors import NoPlace, NoSize, NoStep, NoThing
+from onestep.errors import NoSize, NoStep, NoThing
+from onestep.places import check_place
 
 MOST_SWITCHES = 40
 
 
-# No refusal's words hold a number that was handed in, since Python won't write out a very long one.
 def rows(size):
     if size < 0 or size > MOST_SWITCHES:
         raise NoSize("there are nought to 40 switches")
@@ -15,17 +15,11 @@ def rows(size):
     return count
 
 
-def rows_with_place(size, place):
-    count = rows(size)
-    if place < 0 or place >= count:
-        raise NoPlace("the list has no such place")
-    return count
-
-
 # The second half of a list is the first one mirrored, with the last switch on. So a place in it and
 # the place that the other switches have in the shorter list add up to the last place.
 def row_at(size, place):
-    count = rows_with_place(size, place)
+    count = rows(size)
+    check_place(count, place)
     shorter_place = place
     row = []
     for switch in range(size):
@@ -44,7 +38,7 @@ def row_at(size, place):
 # middle where it is: so the step is how often the number of places gone by can be halved. Going round
 # from the last place, that is once too often: there it is the last switch, the only one still on.
 def row_step(size, place):
-    rows_with_place(size, place)
+    check_place(rows(size), place)
     if size == 0:
         raise NoStep("the list of no switches has no step")
     switch = 0

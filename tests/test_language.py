@@ -1,7 +1,7 @@
 """The program's own files keep to the small part of Python that they are held to.
 
-This looks for what a file's form shows: foreign imports (a clock, chance, files), statements and
-built-in names outside that part, and sizes.
+This looks for what a file's form shows: foreign imports (a clock, chance, files), circles of imports,
+statements and built-in names outside that part, the form of classes, and sizes.
 """
 
 import ast
@@ -34,7 +34,10 @@ METHODS = set(
     " rpartition rsplit rstrip setdefault split splitlines startswith strip update upper values zfill"
     " bit_length".split()
 )
+CONSTANTS = ("None", "True", "False")
 DUNDER_METHODS = {"__init__", "__eq__", "__repr__", "__str__", "__len__"}
+WALKED_AT_ONCE = {"zip", "enumerate", "reversed", "range", "items", "keys", "values"}
+WALKERS = {"list", "tuple", "dict", "sorted", "sum", "any", "all", "enumerate", "zip", "min", "max", "join"}
 UNUSED_WORDS = re.compile(
     r"\b(type|typing|typing_extensions|enum|Enum|IntEnum|StrEnum|Flag|IntFlag|Generic|Protocol|ABC|ABCMeta"
     r"|namedtuple|NamedTuple|TypedDict|TYPE_CHECKING|abstractmethod)\b|dataclass|overload|contextmanager"
@@ -53,6 +56,35 @@ def all_nodes():
 
 def own_methods():
     return {node.name for _, node in all_nodes() if isinstance(node, ast.FunctionDef)}
+
+
+def classes():
+    return [node for _, node in all_nodes() if isinstance(node, ast.ClassDef)]
+
+
+def values_of_objects():
+    return {node.attr for _, node in all_nodes() if isinstance(node, ast.Attribute) and isinstance(node.ctx, ast.Store)}
+
+
+def drawn_from(path):
+    """The files of the package that this one draws from, straight."""
+    rows = [node for node in ast.parse(path.read_text(encoding="ascii")).body if isinstance(node, ast.ImportFrom)]
+    return [PACKAGE.parent / (row.module.replace(".", "/") + ".py") for row in rows]
+
+
+def called_name(node):
+    if not isinstance(node, ast.Call):
+        return None
+    return node.func.attr if isinstance(node.func, ast.Attribute) else getattr(node.func, "id", None)
+
+
+def walked_in(node):
+    """The parts of this node that it walks on the spot."""
+    if isinstance(node, (ast.For, ast.comprehension)):
+        return [node.iter]
+    if called_name(node) in WALKERS:
+        return node.args if called_name(node) == "zip" else node.args[:1]
+    return []
 
 
 def names_bound_in(node):
@@ -116,7 +148,7 @@ class Nodes(unittest.TestCase):
         self.check_none(
             lambda node: isinstance(node, ast.Compare)
             and any(isinstance(sign, (ast.Is, ast.IsNot)) for sign in node.ops)
-            and not any(isinstance(side, ast.Constant) and side.value in (None, True, False) for side in node.comparators)
+            and not all(isinstance(side, ast.Constant) and str(side.value) in CONSTANTS for side in node.comparators)
         )
 
     def test_names(self):
@@ -135,6 +167,21 @@ class Nodes(unittest.TestCase):
             and node.func.attr not in known
         )
 
+    def test_comprehensions_have_one_walk(self):
+        self.check_none(
+            lambda node: isinstance(node, ast.ListComp)
+            and (len(node.generators) != 1 or len(node.generators[0].ifs) > 1)
+        )
+
+    def test_what_is_walked_at_once_is_not_kept(self):
+        for path in SOURCES:
+            nodes = list(ast.walk(ast.parse(path.read_text(encoding="ascii"))))
+            walked = {id(part) for node in nodes for part in walked_in(node)}
+            for node in nodes:
+                if called_name(node) in WALKED_AT_ONCE:
+                    with self.subTest(path=name_of(path), line=node.lineno):
+                        self.assertIn(id(node), walked)
+
     def test_functions_are_small_and_plain(self):
         functions = [node for _, node in all_nodes() if isinstance(node, ast.FunctionDef)]
         self.assertTrue(functions)
@@ -144,6 +191,49 @@ class Nodes(unittest.TestCase):
                 self.assertEqual(node.decorator_list, [])
                 asked = node.args
                 self.assertEqual([asked.vararg, asked.kwarg, asked.kwonlyargs, asked.posonlyargs], [None, None, [], []])
+
+
+class Modules(unittest.TestCase):
+    def test_the_top_of_a_file_binds_each_name_once(self):
+        for path in SOURCES:
+            with self.subTest(path=name_of(path)):
+                names = []
+                for k, row in enumerate(ast.parse(path.read_text(encoding="ascii")).body):
+                    if isinstance(row, ast.ImportFrom):
+                        names += [asked.asname or asked.name for asked in row.names]
+                    elif isinstance(row, ast.Assign):
+                        names += names_bound_in(row.targets[0])
+                    elif isinstance(row, (ast.FunctionDef, ast.ClassDef)):
+                        names.append(row.name)
+                    else:
+                        self.assertTrue(k == 0 and isinstance(row, ast.Expr) and isinstance(row.value, ast.Constant))
+                self.assertEqual(len(names), len(set(names)))
+
+    def test_no_files_draw_from_one_another(self):
+        for path in SOURCES:
+            with self.subTest(path=name_of(path)):
+                reached = drawn_from(path)
+                for other in reached:
+                    self.assertIn(other, SOURCES)
+                    reached += [one for one in drawn_from(other) if one not in reached]
+                self.assertNotIn(path, reached)
+
+
+class Classes(unittest.TestCase):
+    def test_classes_hold_methods_alone(self):
+        for node in classes():
+            with self.subTest(name=node.name):
+                self.assertLessEqual(len(node.bases), 1)
+                self.assertEqual([node.keywords, node.decorator_list], [[], []])
+                methods = [part.name for part in node.body if isinstance(part, ast.FunctionDef)]
+                self.assertTrue(all(isinstance(part, (ast.FunctionDef, ast.Pass)) for part in node.body))
+                self.assertEqual(len(methods), len(set(methods)))
+
+    def test_no_name_is_a_method_and_a_value(self):
+        methods = {part.name for node in classes() for part in node.body if isinstance(part, ast.FunctionDef)}
+        self.assertEqual(methods & values_of_objects(), set())
+        own = dir(str) + dir(int) + dir(list) + dir(dict) + dir(set) + dir(bytes)
+        self.assertEqual((methods - DUNDER_METHODS | values_of_objects()) & set(own), set())
 
 
 if __name__ == "__main__":
